@@ -1,0 +1,58 @@
+"""The interface: names, arguments, an __init__ that binds nothing, and stages that use those ahead of them."""
+
+import ast
+import importlib
+import inspect
+import pathlib
+import subprocess
+import sys
+import unittest
+
+ROOT = pathlib.Path(__file__).resolve().parent.parent
+PACKAGE = ROOT / "cabinet"
+
+# By each file: its stage, and its functions with their arguments.
+INTERFACE = {
+    "errors": (1, {}),
+    "kinds": (1, {"kind_of": "(thing)", "is_name": "(thing)", "is_thing": "(thing)", "alike": "(one, other)",
+                  "depth_of": "(thing)", "size_of": "(thing)", "copied": "(thing)"}),
+    "ranks": (1, {"rank": "(thing)", "before": "(one, other)", "in_order": "(things, falling=False)"}),
+    "signs": (2, {"tokens": "(text)"}),
+}
+
+
+class Interface(unittest.TestCase):
+    def test_names_and_arguments(self):
+        for file, (_, functions) in INTERFACE.items():
+            module = importlib.import_module("cabinet." + file)
+            for name, arguments in functions.items():
+                self.assertEqual(str(inspect.signature(getattr(module, name))), arguments, name)
+
+    def test_arguments_by_name(self):
+        from cabinet.kinds import alike, copied
+        from cabinet.ranks import in_order
+        from cabinet.signs import tokens
+        self.assertTrue(alike(one=[1], other=[1]))
+        self.assertEqual(copied(thing=[1]), [1])
+        self.assertEqual(in_order(things=[1, 2], falling=True), [2, 1])
+        self.assertEqual(tokens(text=""), [("end", "", 0)])
+
+    def test_init_binds_nothing(self):
+        code = "import cabinet; print([name for name in vars(cabinet) if not name.startswith('__')])"
+        told = subprocess.run([sys.executable, "-c", code], cwd=ROOT, capture_output=True, text=True, check=True)
+        self.assertEqual(told.stdout.strip(), "[]")
+
+    def test_each_file_is_of_a_stage(self):
+        files = sorted([path.stem for path in PACKAGE.glob("*.py") if path.stem != "__init__"])
+        self.assertEqual(files, sorted(INTERFACE))
+
+    def test_no_file_uses_one_of_a_later_stage(self):
+        for file, (stage, _) in INTERFACE.items():
+            for node in ast.walk(ast.parse((PACKAGE / (file + ".py")).read_text())):
+                if isinstance(node, ast.ImportFrom):
+                    used = node.module.split(".")[1]
+                    self.assertLessEqual(INTERFACE[used][0], stage, (file, used))
+
+
+if __name__ == "__main__":
+    unittest.main()
