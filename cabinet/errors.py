@@ -57,10 +57,10 @@ class NoVersion(CabinetError):
 
 
 class NoFit(CabinetError):
-    def __init__(self, text, faults=()):
+    def __init__(self, text, faults=None):
         CabinetError.__init__(self, text)
         # The paths within the pairs are lists, so copying the outer list alone would not do.
-        self.faults = [copied(pair) for pair in faults]
+        self.faults = [] if faults is None else [copied(pair) for pair in faults]
 
 
 class Stuck(CabinetError):

@@ -82,13 +82,27 @@ def rules_broken(node, own_methods):
         return expression_rules(node, own_methods)
     if isinstance(node, ast.arg):
         return binding_rules(node.arg) + (["L21"] if node.annotation else [])
-    if isinstance(node, ast.arguments) and (node.vararg or node.kwarg or node.kwonlyargs):
-        return ["L4"]
+    if isinstance(node, ast.arguments):
+        return argument_rules(node)
     if isinstance(node, ast.comprehension) and len(node.ifs) > 1:
         return ["L7"]
     if isinstance(node, ast.ExceptHandler) and not isinstance(node.type, (ast.Name, ast.Tuple)):
         return ["L6"]
     return []
+
+
+def argument_rules(node):
+    if node.vararg or node.kwarg or node.kwonlyargs:
+        return ["L4"]
+    return [] if all(is_plain_default(default) for default in node.defaults) else ["L4"]
+
+
+def is_plain_default(node):
+    """A whole number, a text, True, False or None alone."""
+    if isinstance(node, ast.UnaryOp) and isinstance(node.op, ast.USub):
+        # Python reads a number below nought as a minus and a number; a minus ahead of a truth is none.
+        return isinstance(node.operand, ast.Constant) and type(node.operand.value) is int
+    return isinstance(node, ast.Constant) and (node.value is None or isinstance(node.value, (bool, int, str)))
 
 
 def statement_rules(node):

@@ -4,7 +4,7 @@ import ast
 import pathlib
 import unittest
 
-from tests.language import faults_of, own_methods_of
+from tests.language import faults_of, is_plain_default, own_methods_of
 
 PACKAGE = pathlib.Path(__file__).resolve().parent.parent / "cabinet"
 SOURCES = {path.stem: path.read_text() for path in sorted(PACKAGE.glob("*.py"))}
@@ -30,6 +30,13 @@ class Package(unittest.TestCase):
         methods = own_methods_of(SOURCES.values())
         for name, source in SOURCES.items():
             self.assertEqual(faults_of(source, methods), [], name)
+
+    def test_no_default_is_other_than_a_plain_value(self):
+        for name, source in SOURCES.items():
+            for node in ast.walk(ast.parse(source)):
+                if isinstance(node, (ast.FunctionDef, ast.Lambda)):
+                    for default in node.args.defaults + node.args.kw_defaults:
+                        self.assertTrue(is_plain_default(default), (name, node.lineno))
 
     def test_only_files_of_python_lie_in_it(self):
         others = [path.name for path in PACKAGE.iterdir() if path.suffix != ".py" and path.name != "__pycache__"]
@@ -67,6 +74,24 @@ class Looker(unittest.TestCase):
                 ("L27", "x = '" + chr(37) + "'")]:
             with self.subTest(source):
                 self.assertIn(rule, [found for found, _ in faults_of(source)])
+
+    def rules_of_default(self, default):
+        rules = []
+        for source in [f"def f(x, y={default}):\n    return x", f"def f(x={default}, y=1):\n    return x",
+                       f"class A:\n    def f(self, x={default}):\n        return x",
+                       f"def f():\n    return lambda x={default}: x"]:
+            rules.append("L4" in [found for found, _ in faults_of(source)])
+        return rules
+
+    def test_plain_defaults(self):
+        for default in ["0", "7", "-1", "10000", "''", "'a'", "True", "False", "None"]:
+            self.assertEqual(self.rules_of_default(default), [False] * 4, default)
+
+    def test_defaults_that_are_no_plain_values(self):
+        for default in ["()", "(1,)", "[]", "[1]", "{}", "{1: 2}", "{1}", "NAME", "len", "f()", "list()", "1 + 1",
+                        "10 ** 12", "a.b", "a[0]", "-NAME", "-True", "not True", "+1", "1.5", "-1.5", "b''", "...",
+                        "f'a'", "lambda: 1", "1 if NAME else 2", "[x for x in NAME]"]:
+            self.assertEqual(self.rules_of_default(default), [True] * 4, default)
 
 
 if __name__ == "__main__":
