@@ -53,6 +53,40 @@ def spoil(value):
             holder["spoilt"] = "spoilt"
 
 
+def check_own(case, ask, make):
+    """[1], of ask with the arguments that make tells, anew at each call."""
+    wanted = repr(ask(*make()))
+    handed = make()
+    told = ask(*handed)
+    case.assertEqual(repr(handed), repr(make()))
+    case.assertEqual(repr(told), wanted)
+    case.assertEqual(len(set(identities(told))), len(holders(told)))
+    case.assertFalse(set(identities(told)) & set(identities(handed)))
+    spoil(told)
+    case.assertEqual(repr(handed), repr(make()))
+    told = ask(*handed)
+    case.assertEqual(repr(told), wanted)
+    spoil(handed)
+    case.assertEqual(repr(told), wanted)
+
+
+# Things at the bounds of [10], each a thing still.
+BOUNDS = [
+    10 ** 12,
+    -(10 ** 12),
+    "~" * 30,
+    "'" * 30,
+    [0] * 60,
+    {"n" + str(number): number for number in range(30)},
+    {"a" * 12: "a"},
+    nested(8),
+    nested(8, "x"),
+    nested_records(8),
+    sized(200),
+    [{"b" + "0" * 11: "'" * 30, "a": -(10 ** 12)} for _ in range(60)],
+    {"z" + str(number): [[], {}, ""] for number in range(30)},
+]
+
 # Rising by [13], no two alike.
 RISING = [
     None,

@@ -18,6 +18,11 @@ INTERFACE = {
                   "depth_of": "(thing)", "size_of": "(thing)", "copied": "(thing)"}),
     "ranks": (1, {"rank": "(thing)", "before": "(one, other)", "in_order": "(things, falling=False)"}),
     "signs": (2, {"tokens": "(text)"}),
+    "writing": (2, {"written": "(thing)"}),
+    "reading": (2, {"read": "(text)"}),
+    "paths": (3, {"is_path": "(thing)", "path_text": "(path)", "read_path": "(text)"}),
+    "reach": (3, {"thing_at": "(thing, path)", "has": "(thing, path)", "found_or": "(thing, path, other=None)",
+                  "spots": "(thing)"}),
 }
 
 
@@ -30,12 +35,25 @@ class Interface(unittest.TestCase):
 
     def test_arguments_by_name(self):
         from cabinet.kinds import alike, copied
+        from cabinet.paths import is_path, path_text, read_path
         from cabinet.ranks import in_order
+        from cabinet.reach import found_or, has, spots, thing_at
+        from cabinet.reading import read
         from cabinet.signs import tokens
+        from cabinet.writing import written
         self.assertTrue(alike(one=[1], other=[1]))
         self.assertEqual(copied(thing=[1]), [1])
         self.assertEqual(in_order(things=[1, 2], falling=True), [2, 1])
         self.assertEqual(tokens(text=""), [("end", "", 0)])
+        self.assertEqual(written(thing=[1]), "[1]")
+        self.assertEqual(read(text="[1]"), [1])
+        self.assertTrue(is_path(thing=[1]))
+        self.assertEqual(path_text(path=[1]), "[1]")
+        self.assertEqual(read_path(text="[1]"), [1])
+        self.assertEqual(thing_at(thing=[5], path=[0]), 5)
+        self.assertTrue(has(thing=[5], path=[0]))
+        self.assertEqual(found_or(thing=[5], path=[1], other=6), 6)
+        self.assertEqual(spots(thing=[5]), [[], [0]])
 
     def test_init_binds_nothing(self):
         code = "import cabinet; print([name for name in vars(cabinet) if not name.startswith('__')])"
