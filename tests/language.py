@@ -25,12 +25,15 @@ NOT_WORDS = re.compile(r"\b(type|typing|typing_extensions|enum|Enum|IntEnum|StrE
                        r"|dataclass|overload|contextmanager")
 KEYWORDS = {"sorted": ["key", "reverse"], "min": ["key", "default"], "max": ["key", "default"], "sum": ["start"],
             "enumerate": ["start"], "zip": ["strict"]}
+WALKED = "zip enumerate reversed range".split()
+WALKED_METHODS = "items keys values".split()
+WALKERS = "list tuple dict sorted sum any all enumerate zip".split()
 
 
 def faults_of(source, own_methods=()):
     """A list of pairs of a rule and a row's number."""
     tree = ast.parse(source)
-    found = faults_of_rows(source) + faults_of_top(tree)
+    found = faults_of_rows(source) + faults_of_top(tree) + faults_of_walks(tree)
     for node in ast.walk(tree):
         found += [(rule, getattr(node, "lineno", 0)) for rule in rules_broken(node, own_methods)]
     return sorted(set(found))
@@ -73,6 +76,32 @@ def faults_of_docstrings(tree):
     top = tree.body[0] if tree.body and ast.get_docstring(tree) is not None else None
     return [("L6", node.lineno) for node in ast.walk(tree)
             if isinstance(node, ast.Expr) and node is not top and not isinstance(node.value, ast.Call)]
+
+
+def faults_of_walks(tree):
+    """L23, but for what is changed in a loop: ranges and their like stand where they are walked at once alone."""
+    nodes = list(ast.walk(tree))
+    walked = [id(node.iter) for node in nodes if isinstance(node, (ast.For, ast.comprehension))]
+    walked += [id(part) for node in nodes if isinstance(node, ast.Call) for part in walked_arguments(node)]
+    return [("L23", node.lineno) for node in nodes if is_to_be_walked(node) and id(node) not in walked]
+
+
+def is_to_be_walked(node):
+    if not isinstance(node, ast.Call):
+        return False
+    if isinstance(node.func, ast.Attribute):
+        return node.func.attr in WALKED_METHODS
+    return isinstance(node.func, ast.Name) and node.func.id in WALKED
+
+
+def walked_arguments(node):
+    if isinstance(node.func, ast.Attribute):
+        return node.args if node.func.attr == "join" and isinstance(node.func.value, ast.Constant) else []
+    if not isinstance(node.func, ast.Name):
+        return []
+    if node.func.id in ("min", "max") and len(node.args) == 1:
+        return node.args
+    return node.args[:1] if node.func.id in WALKERS else []
 
 
 def rules_broken(node, own_methods):

@@ -70,10 +70,20 @@ class Looker(unittest.TestCase):
                 ("L14", "x = '\xe9'"), ("L15", "def f(map):\n    pass"), ("L15", "x = 1\nx = 2"),
                 ("L17", "def f(x):\n    return type(x)"), ("L17", "x = 'of this type'"),
                 ("L20", "def f(x, y):\n    return x is y"), ("L21", "def f(x: int):\n    pass"),
-                ("L22", "def f(x, y):\n    return sorted(x, reverse=y)"), ("L25", "def f(x):\n    x.sort()"),
+                ("L22", "def f(x, y):\n    return sorted(x, reverse=y)"), ("L23", "def f():\n    return range(3)"),
+                ("L23", "def f(x):\n    for y in reversed(range(x)):\n        g(y)"),
+                ("L23", "def f(x):\n    y = x.items()"), ("L23", "def f(x):\n    return len(x.keys())"),
+                ("L23", "def f(x):\n    return [1 for y in zip(x, range(3))]"), ("L25", "def f(x):\n    x.sort()"),
                 ("L27", "x = '" + chr(37) + "'")]:
             with self.subTest(source):
                 self.assertIn(rule, [found for found, _ in faults_of(source)])
+
+    def test_it_lets_walks_on_the_spot_pass(self):
+        for row in ["for y in range(3):\n        g(y)", "return [y for y in enumerate(zip(x, x))]",
+                    "return list(reversed(x))", "return max(x.values(), default=0)", "return ', '.join(x.keys())",
+                    "return sum(range(x))"]:
+            with self.subTest(row):
+                self.assertEqual(faults_of("def f(x):\n    " + row), [])
 
     def rules_of_default(self, default):
         rules = []

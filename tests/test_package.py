@@ -23,6 +23,11 @@ INTERFACE = {
     "paths": (3, {"is_path": "(thing)", "path_text": "(path)", "read_path": "(text)"}),
     "reach": (3, {"thing_at": "(thing, path)", "has": "(thing, path)", "found_or": "(thing, path, other=None)",
                   "spots": "(thing)"}),
+    "setting": (3, {"put": "(thing, path, new)", "inserted": "(thing, path, new)", "taken": "(thing, path)",
+                    "changed_at": "(thing, word, path, new=None)"}),
+    "papers": (4, {"is_paper": "(thing)", "done": "(thing, paper)"}),
+    "backs": (4, {"back": "(thing, paper)"}),
+    "differ": (4, {"difference": "(old, new)", "apart": "(one, other)"}),
 }
 
 
@@ -34,11 +39,15 @@ class Interface(unittest.TestCase):
                 self.assertEqual(str(inspect.signature(getattr(module, name))), arguments, name)
 
     def test_arguments_by_name(self):
+        from cabinet.backs import back
+        from cabinet.differ import apart, difference
         from cabinet.kinds import alike, copied
+        from cabinet.papers import done, is_paper
         from cabinet.paths import is_path, path_text, read_path
         from cabinet.ranks import in_order
         from cabinet.reach import found_or, has, spots, thing_at
         from cabinet.reading import read
+        from cabinet.setting import changed_at, inserted, put, taken
         from cabinet.signs import tokens
         from cabinet.writing import written
         self.assertTrue(alike(one=[1], other=[1]))
@@ -54,6 +63,15 @@ class Interface(unittest.TestCase):
         self.assertTrue(has(thing=[5], path=[0]))
         self.assertEqual(found_or(thing=[5], path=[1], other=6), 6)
         self.assertEqual(spots(thing=[5]), [[], [0]])
+        self.assertEqual(put(thing=[5], path=[0], new=6), [6])
+        self.assertEqual(inserted(thing=[5], path=[0], new=6), [6, 5])
+        self.assertEqual(taken(thing=[5], path=[0]), [])
+        self.assertEqual(changed_at(thing=[5], word="put", path=[0], new=6), [6])
+        self.assertTrue(is_paper(thing=[("take", [0])]))
+        self.assertEqual(done(thing=[5], paper=[("take", [0])]), [])
+        self.assertEqual(len(back(thing=[5], paper=[("take", [0])])), 1)
+        self.assertEqual(len(difference(old=[5], new=[])), 1)
+        self.assertTrue(apart(one=[("take", ["a"])], other=[("take", ["b"])]))
 
     def test_init_binds_nothing(self):
         code = "import cabinet; print([name for name in vars(cabinet) if not name.startswith('__')])"
